@@ -1,0 +1,1 @@
+"""Whatremains: what is still to do, caught, kept, gone on with once or often."""
