@@ -1,12 +1,46 @@
-"""What the tests share: short names for expressions, and a case that asks both ways."""
+"""What the tests share: short names for expressions, and a case that asks all ways of running."""
 
 import unittest
 
 from whatremains.calls import run_calls
+from whatremains.errors import BadProgram
+from whatremains.papers import papers
+from whatremains.piles import run_piles
 from whatremains.plain import run
+from whatremains.rooms import run_rooms
 
-WAYS = (run, run_calls)
 FAULT = ("fault",)
+
+
+def all_papers(program):
+    """All papers that a program has; of what is no program, none."""
+    try:
+        return papers(program)
+    except BadProgram:
+        return []
+
+
+def no_papers(program):
+    """None for each catch of a program."""
+    return [None for _ in all_papers(program)]
+
+
+def run_in_rooms(program, fuel):
+    """What run_rooms tells that run tells, too."""
+    return run_rooms(program, fuel)[0]
+
+
+def run_on_copied_piles(program, fuel):
+    """What run_piles tells, with no papers, that run tells, too."""
+    return run_piles(program, fuel, no_papers(program))[0]
+
+
+def run_on_moved_piles(program, fuel):
+    """What run_piles tells, with all papers, that run tells, too."""
+    return run_piles(program, fuel, all_papers(program))[0]
+
+
+WAYS = (run, run_calls, run_in_rooms, run_on_copied_piles, run_on_moved_piles)
 
 
 def num(n):

@@ -14,12 +14,18 @@ TypeError KeyError IndexError LookupError ZeroDivisionError ArithmeticError Over
 NotImplementedError AttributeError StopIteration NotImplemented""".split())
 METHODS = set("""append clear copy count endswith extend find get index insert isalnum isalpha isdigit islower isspace
 isupper items join keys ljust lower lstrip partition pop remove replace reverse rfind rjust rpartition rsplit rstrip
-setdefault split splitlines startswith strip update upper values zfill bit_length""".split())
+setdefault split splitlines startswith strip update upper values zfill bit_length
+title capitalize swapcase casefold center expandtabs removeprefix removesuffix rindex isascii isdecimal isnumeric
+istitle isidentifier isprintable""".split())
 INTERFACE = {
     "errors": {"RestError", "BadProgram", "BadFuel", "BadPapers", "BadText"},
     "programs": {"parts"},
     "plain": {"run"},
     "calls": {"run_calls"},
+    "rooms": {"run_rooms"},
+    "piles": {"run_piles"},
+    "papers": {"papers", "shows"},
+    "notes": {"written", "read"},
 }
 
 
@@ -83,6 +89,42 @@ class Language(unittest.TestCase):
         self.assertEqual([(stem, node) for stem, node in self.nodes(*barred)], [])
         for stem, node in self.nodes(ast.Constant):
             self.assertNotIsInstance(node.value, float, stem)
+
+    def test_no_name_is_a_method_and_an_attribute(self):
+        methods = {node.name for _, cls in self.nodes(ast.ClassDef) for node in cls.body
+                   if isinstance(node, ast.FunctionDef)}
+        attributes = {node.attr for _, node in self.nodes(ast.Attribute) if isinstance(node.ctx, ast.Store)}
+        self.assertEqual(methods & attributes, set())
+
+    def test_no_parameter_or_local_name_is_one_of_the_files_classes_or_imports(self):
+        for stem, tree in self.trees.items():
+            outer = {node.name for node in tree.body if isinstance(node, ast.ClassDef)}
+            for node in ast.walk(tree):
+                if isinstance(node, ast.ImportFrom):
+                    outer.update(alias.name for alias in node.names)
+            inner = {node.arg for node in ast.walk(tree) if isinstance(node, ast.arg)}
+            inner |= {node.id for node in ast.walk(tree) if isinstance(node, ast.Name)
+                      and isinstance(node.ctx, ast.Store)}
+            self.assertEqual(outer & inner, set(), stem)
+
+    def test_files_import_in_no_circle(self):
+        left = {stem: {node.module.partition(".")[2] for node in ast.walk(tree) if isinstance(node, ast.ImportFrom)}
+                for stem, tree in self.trees.items()}
+        while left:
+            done = {stem for stem, needed in left.items() if not needed & set(left)}
+            self.assertTrue(done, left)
+            left = {stem: needed for stem, needed in left.items() if stem not in done}
+
+    def test_strings(self):
+        for stem, node in self.nodes(ast.Constant):
+            if isinstance(node.value, str):
+                self.assertNotIn("%", node.value, stem)
+        for stem, node in self.nodes(ast.Name):
+            self.assertRegex(node.id, "^_?[A-Za-z][A-Za-z0-9_]*$|^_$", stem)
+
+    def test_tables_of_functions_are_not_called_at_once(self):
+        for stem, node in self.nodes(ast.Call):
+            self.assertIsInstance(node.func, (ast.Name, ast.Attribute), (stem, node.lineno))
 
     def test_the_interface_is_defined_where_it_is_listed(self):
         for stem, names in INTERFACE.items():

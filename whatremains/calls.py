@@ -81,7 +81,7 @@ def do_name(tale, part, bound, after, around):
 
 def do_fun(tale, part, bound, after, around):
     """Come to a fun that keeps the names that are bound."""
-    return come(after, Fun(part, bound), around)
+    return come(after, Fun(part.within[0], part.names[0], bound), around)
 
 
 def do_fault(tale, part, bound, after, around):
@@ -203,7 +203,7 @@ def throw(tale, worth, after, around):
 def call(tale, worths, after, around):
     """Do the body of a fun."""
     fun = worths[0]
-    return do(tale, fun.part.within[0], binding(fun.bound, fun.part.names[0], worths[1]), after, around)
+    return do(tale, fun.body, binding(fun.bound, fun.name, worths[1]), after, around)
 
 
 def go(tale, worths, after, around):

@@ -188,7 +188,7 @@ def end_call(row, worths):
     """Do the body of a fun."""
     if row.tale.spend():
         fun = worths[0]
-        row.do(fun.part.within[0], binding(fun.bound, fun.part.names[0], worths[1]))
+        row.do(fun.body, binding(fun.bound, fun.name, worths[1]))
 
 
 def end_throw(row, worths):
@@ -244,7 +244,7 @@ def begin_name(row, part, bound):
 
 def begin_fun(row, part, bound):
     """Come to a fun that keeps the names that are bound."""
-    row.come(Fun(part, bound))
+    row.come(Fun(part.within[0], part.names[0], bound))
 
 
 def begin_fault(row, part, bound):

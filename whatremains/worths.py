@@ -16,10 +16,11 @@ REACHED = ("add", "take", "less")
 
 
 class Fun:
-    """A body with one name to bind, and the names that were bound where it stood."""
+    """A body, in the form in which a way of running keeps it, its name, and the names that were bound around it."""
 
-    def __init__(self, part, bound):
-        self.part = part
+    def __init__(self, body, name, bound):
+        self.body = body
+        self.name = name
         self.bound = bound
 
 
