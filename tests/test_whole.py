@@ -4,8 +4,8 @@ import copy
 import unittest
 
 from tests.building import (
-    A_BOX, FAULT, WAYS, add, all_papers, call, catch, drop, fun, go, in_turn, last, let, look, name, no_papers, num,
-    otherwise, put, round_and_round, say, take, throw, when, box,
+    A_BOX, FAULT, WAYS, add, all_papers, box, call, catch, drop, fun, go, in_turn, last, let, look, name, no_papers,
+    num, otherwise, put, round_and_round, say, take, throw, when,
 )
 from tests.drawing import Lot
 from whatremains.calls import run_calls
@@ -120,7 +120,7 @@ class HandedInFirst(unittest.TestCase):
     def test_refused_again_the_same_after_the_refusal_was_changed(self):
         asked = (
             (BadProgram, "at", 0, lambda: parts(name("a"))),
-            (BadPapers, "number", 1, lambda: run_piles(num(1), 0, []) and shows(num(1), 1, None)),
+            (BadPapers, "number", 1, lambda: shows(num(1), 1, None)),
             (BadText, "place", 1, lambda: read("say")),
         )
         for error, field, worth, ask in asked:
